@@ -78,6 +78,9 @@ class Source:
         }
 
     def found(self, rule, node, what):
+        # Signs have no line of their own; what stands around them has.
+        while not isinstance(node, int) and not hasattr(node, "lineno") and node in self.parents:
+            node = self.parents[node]
         line = node if isinstance(node, int) else getattr(node, "lineno", 1)
         return f"{rule} {self.name}:{line} {what}"
 

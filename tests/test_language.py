@@ -159,6 +159,9 @@ class ChecksTest(unittest.TestCase):
             rules = [row.split(" ")[0] for row in findings(text)]
             self.assertIn(rule, rules, text)
 
+    def test_a_finding_names_the_line(self):
+        self.assertEqual(findings("A = 0\n\n\ndef f(a):\n    return a / 2\n"), ["L7 some.py:5 /"])
+
     def test_imports_in_a_circle(self):
         files = {
             "__init__.py": "",
