@@ -3,13 +3,14 @@
 from bindspan.errors import BadTree, BadWord, Duplicate, OutOfOrder, Repeated, Unknown
 from bindspan.forms import CHOICES, STATEMENTS, is_part
 from bindspan.lines import beginnings
-from bindspan.trees import in_order
+from bindspan.trees import in_order, named
 
 # For each role of an identifier the kinds of the parts that it may name.
 KINDS = {
     "name": ("name",),
     "flag": ("flag",),
     "bound": ("name", "flag"),
+    "captured": ("name", "flag"),
     "slot": ("slot",),
     "func": ("func",),
 }
@@ -44,13 +45,13 @@ def check_names(parts, lines):
     """
     declared = {}
     statements = []
-    for line, (_, node, place) in zip(lines, beginnings(parts)):
+    for line, (_, node, path) in zip(lines, beginnings(parts)):
         if node[0] in STATEMENTS:
-            statements.append((line, node, place))
+            statements.append((line, node, path[0]))
         elif node[1] in declared:
             raise Duplicate(line, node[1])
         else:
-            declared[node[1]] = (node[0], place)
+            declared[node[1]] = (node[0], path[0])
     for line, statement, place in statements:
         _check_known(line, statement, declared)
         _check_word(line, statement, declared)
@@ -61,23 +62,11 @@ def check_names(parts, lines):
 
 def _check_known(line, statement, declared):
     """Refuses an identifier that is not declared as one of the kinds that may stand at its place."""
-    for ident, kinds in _named(statement, declared):
+    for role, ident in named(statement):
+        # The second identifier of a bind has the kind of the first, which was found before.
+        kinds = declared[statement[1]][:1] if role == "worth" else KINDS[role]
         if ident not in declared or declared[ident][0] not in kinds:
             raise Unknown(line, ident)
-
-
-def _named(statement, declared):
-    """Each identifier that the statement names, in the order of the tuple, with the kinds that it may have."""
-    rows = []
-    for role, item in zip(STATEMENTS[statement[0]], statement[1:]):
-        if role in KINDS:
-            rows.append((item, KINDS[role]))
-        elif role == "worth" and item[0] == "of":
-            # The kind of the bound name itself; if it has none, its own row comes first and is refused.
-            rows.append((item[1], declared.get(statement[1], ())[:1]))
-        elif role == "captured":
-            rows.extend([(ident, KINDS["bound"]) for ident in item])
-    return rows
 
 
 def _check_word(line, statement, declared):

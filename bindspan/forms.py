@@ -28,6 +28,9 @@ STATEMENTS = {
     "guard": ("rows", "rows"),
 }
 
+# The roles of items that are one identifier.
+IDENTS = ("ident", "name", "flag", "bound", "slot", "func")
+
 # The words that each role with a choice allows.
 CHOICES = {"switch": ("on", "off"), "reach": ("open", "own")}
 

@@ -4,57 +4,65 @@ from bindspan.forms import DIVIDERS, STATEMENTS, rows_of
 
 
 def laid_out(parts):
-    """The list of the lines, each as a tuple of its text, what begins at it, and the index of its part.
+    """The list of the lines, each as a tuple of its text, what begins at it, and the path to that.
 
-    What begins is a part or a statement, and None at the lines else, after and end.
+    What begins is a part or a statement. At the lines else, after and end it is None, and the path is that of the
+    function or block. The path of a part is its index; that of a statement goes on from the function or block with
+    the index of the rows and the index in the rows.
     """
     lines = []
     for place, part in enumerate(parts):
-        lines.extend([(text, node, place) for text, node in _part_lines(part)])
+        lines.extend(_part_lines(part, (place,)))
     return lines
 
 
 def beginnings(parts):
-    """The list of the lines at which a part or statement begins: the number, what begins, the index of its part."""
+    """The list of the lines at which a part or statement begins: the number, what begins, and the path to it."""
     rows = []
-    for number, (_, node, place) in enumerate(laid_out(parts), start=1):
+    for number, (_, node, path) in enumerate(laid_out(parts), start=1):
         if node is not None:
-            rows.append((number, node, place))
+            rows.append((number, node, path))
     return rows
 
 
-def _part_lines(part):
-    """The texts of the lines of a part, each with what begins at it."""
+def level_at(path):
+    """The level of the line that begins what stands at the path."""
+    return len(path) // 2
+
+
+def _part_lines(part, path):
+    """The lines of the part at the path, as laid_out gives them."""
     kind, ident, worth = part[:3]
     if kind in ("name", "flag"):
-        return [(f"{kind} {ident} = {worth}", part)]
-    lines = [(f"{worth} {kind} {ident}", part)]
+        return [(f"{kind} {ident} = {worth}", part, path)]
+    lines = [(f"{worth} {kind} {ident}", part, path)]
     if kind == "func":
-        lines.extend(_rows_lines(part[3], 1))
-        lines.append(("end", None))
+        lines.extend(_rows_lines(part[3], (*path, 3)))
+        lines.append(("end", None, path))
     return lines
 
 
-def _rows_lines(rows, level):
-    """The texts of the lines of rows at this level, each with what begins at it."""
+def _rows_lines(rows, path):
+    """The lines of the rows at the path."""
     lines = []
-    for statement in rows:
-        lines.extend(_statement_lines(statement, level))
+    for at, statement in enumerate(rows):
+        lines.extend(_statement_lines(statement, (*path, at)))
     return lines
 
 
-def _statement_lines(statement, level):
-    """The texts of the lines of a statement at this level, each with what begins at it."""
-    indent = "  " * level
-    lines = [(indent + _first_line(statement), statement)]
+def _statement_lines(statement, path):
+    """The lines of the statement at the path."""
+    indent = "  " * level_at(path)
+    lines = [(indent + _first_line(statement), statement, path)]
     blocks = rows_of(statement)
     if not blocks:
         return lines
-    lines.extend(_rows_lines(blocks[0], level + 1))
+    first = len(statement) - len(blocks)
+    lines.extend(_rows_lines(blocks[0], (*path, first)))
     if len(blocks) == 2 and blocks[1]:
-        lines.append((indent + DIVIDERS[statement[0]], None))
-        lines.extend(_rows_lines(blocks[1], level + 1))
-    lines.append((indent + "end", None))
+        lines.append((indent + DIVIDERS[statement[0]], None, path))
+        lines.extend(_rows_lines(blocks[1], (*path, first + 1)))
+    lines.append((indent + "end", None, path))
     return lines
 
 

@@ -361,6 +361,7 @@ FORBIDDEN = (
     (ast.AsyncFor, "L6", "async"), (ast.AsyncWith, "L6", "async"), (ast.Div, "L7", "/"), (ast.MatMult, "L7", "@"),
     (ast.Match, "L6", "match is not used here: see its rule first"),
     (ast.GeneratorExp, "L7", "a generator expression: take a list"),
+    (ast.With, "L6", "with is not used here: see its rule first"),
 )
 
 
@@ -511,8 +512,12 @@ def check_special_methods(source):
         if name and name not in ("init", "exit", "call", "setitem", "enter"):
             if len(node.args.args) != wanted or node.args.defaults or node.args.vararg or node.args.kwonlyargs:
                 findings.append(source.found("L5", node, f"the parameters of {node.name}"))
-        if name and name not in ("init", "enter", "call"):
+        if name and name not in ("init", "enter", "exit", "call", "setitem"):
             findings.extend(changes_in(source, node))
+        if name == "enter" and len(node.args.args) != 1:
+            findings.append(source.found("L6", node, "the parameters of __enter__"))
+        if name == "exit":
+            findings.extend(check_exit(source, node, rows))
     for node in source.nodes(ast.ClassDef):
         names = [row.name for row in node.body if isinstance(row, FUNCTIONS)]
         if "__getitem__" in names and "__iter__" not in names:
@@ -527,6 +532,153 @@ def changes_in(source, function):
         for node in ast.walk(function)
         if isinstance(node, (ast.Attribute, ast.Subscript)) and not isinstance(node.ctx, ast.Load)
     ]
+
+
+def check_exit(source, node, rows):
+    """L6 With, more narrowly than the rule: only simple statements without tests."""
+    findings = []
+    if [row.arg for row in node.args.args] != ["self", "kind", "value", "trace"] or node.args.defaults:
+        findings.append(source.found("L6", node, "the parameters of __exit__"))
+    read = {row.id for row in ast.walk(node) if isinstance(row, ast.Name) and isinstance(row.ctx, ast.Load)}
+    if read & {"kind", "value", "trace"} or not all(is_simple_row(row) for row in rows):
+        findings.append(source.found("L6", node, "__exit__ does more than it may"))
+    return findings
+
+
+def check_finally(source):
+    """L6 Finally, more narrowly than the rule: only simple statements without tests."""
+    return [
+        source.found("L6", row, "more than may stand in a finally")
+        for node in source.nodes(ast.Try)
+        for row in node.finalbody
+        if not is_simple_row(row)
+    ]
+
+
+def is_simple_row(row):
+    """Whether a statement only assigns names, attributes and literals to names and attributes."""
+    if isinstance(row, ast.Assign):
+        return len(row.targets) == 1 and is_dotted(row.targets[0]) and is_simple(row.value)
+    return isinstance(row, ast.Pass)
+
+
+def is_simple(node):
+    if isinstance(node, (ast.Tuple, ast.List)):
+        return all(is_simple(part) for part in node.elts)
+    return isinstance(node, ast.Constant) or is_dotted(node)
+
+
+def is_dotted(node):
+    """Whether a node is a name or an attribute of such."""
+    while isinstance(node, ast.Attribute):
+        node = node.value
+    return isinstance(node, ast.Name)
+
+
+def is_property(node):
+    return any(isinstance(mark, ast.Name) and mark.id == "property" for mark in node.decorator_list)
+
+
+def is_fixed(node):
+    """Whether a method is a static or a class method."""
+    return any(isinstance(mark, ast.Name) and mark.id != "property" for mark in node.decorator_list)
+
+
+def check_decorated(sources):
+    """L5 Properties, static and class methods: their names mean nothing else."""
+    findings = []
+    rows = [(source, node) for source in sources for node in methods_in(source)]
+    properties = {node.name for _, node in rows if is_property(node)}
+    fixed = {node.name for _, node in rows if is_fixed(node)}
+    plain = {node.name for _, node in rows if not node.decorator_list}
+    stored = {
+        (source.scope(node), node.attr): (source, node)
+        for source in sources
+        for node in source.nodes(ast.Attribute)
+        if isinstance(node.ctx, ast.Store)
+    }
+    for source, node in rows:
+        if is_property(node) and (node.name in plain | fixed | VALUE_METHODS or len(node.args.args) != 1):
+            findings.append(source.found("L5", node, f"the property {node.name}"))
+        if is_setter(node) and [row.arg for row in node.args.args] != ["self", "value"]:
+            findings.append(source.found("L5", node, f"the parameters of the setter of {node.name}"))
+        if is_fixed(node) and node.name in plain | properties | VALUE_METHODS:
+            findings.append(source.found("L5", node, f"{node.name} is a static or class method and something else"))
+    for (_, name), (source, node) in stored.items():
+        if name in properties | fixed:
+            findings.append(source.found("L5", node, f"{name} is an attribute and something else"))
+    return findings
+
+
+CHANGING = set("append clear extend insert pop remove reverse setdefault update add discard sort".split())
+
+
+def check_pure(sources):
+    """L5 Operators and Properties: what they run changes nothing, and calls nothing that it is passed or holds.
+
+    Functions and methods are followed by their names alone, so that one of that name anywhere in the package counts.
+    """
+    findings = []
+    homes = {}
+    for source in sources:
+        for node in source.nodes(*FUNCTIONS):
+            owner = source.parents[node]
+            name = owner.name if node.name == "__init__" else node.name
+            homes.setdefault(name, []).append((source, node))
+    waiting = [row for rows in homes.values() for row in rows if is_operator(row[1])]
+    seen = set()
+    while waiting:
+        source, node = waiting.pop()
+        if node not in seen:
+            seen.add(node)
+            findings.extend(impure_in(source, node, homes))
+            for call in [row for row in ast.walk(node) if isinstance(row, ast.Call)]:
+                name = call.func.attr if isinstance(call.func, ast.Attribute) else called_name(call)
+                waiting.extend(homes.get(name, ()))
+    return findings
+
+
+def is_operator(node):
+    plain = ("__init__", "__enter__", "__exit__", "__call__", "__setitem__")
+    return is_property(node) or node.name.startswith("__") and node.name not in plain
+
+
+def impure_in(source, function, homes):
+    """What a function changes that it did not make itself, and what it calls that it was passed or holds."""
+    findings = []
+    made = {
+        row.targets[0].id
+        for row in ast.walk(function)
+        if isinstance(row, ast.Assign) and isinstance(row.targets[0], ast.Name) and is_new_list(row.value)
+    }
+    own = set(source.imported()) | set(source.defined())
+    for node in ast.walk(function):
+        if isinstance(node, (ast.Attribute, ast.Subscript)) and not isinstance(node.ctx, ast.Load):
+            at_birth = isinstance(node, ast.Attribute) and function.name == "__init__" and is_self(node.value)
+            if not at_birth:
+                findings.append(source.found("L5", node, f"{function.name} changes something, and an operator runs it"))
+        if isinstance(node, ast.AugAssign) and not isinstance(node.value, ast.Constant):
+            findings.append(source.found("L5", node, f"{function.name} has such a sign, and an operator runs it"))
+        if isinstance(node, ast.Call) and isinstance(node.func, ast.Attribute) and node.func.attr in CHANGING:
+            held = node.func.value
+            if not (isinstance(held, ast.Name) and held.id in made):
+                findings.append(source.found("L5", node, f"{function.name} changes something, and an operator runs it"))
+        elif isinstance(node, ast.Call) and isinstance(node.func, ast.Attribute):
+            if node.func.attr not in homes and node.func.attr not in ALLOWED_METHODS:
+                findings.append(source.found("L5", node, f"{function.name} calls what it holds, in an operator"))
+        elif isinstance(node, ast.Call):
+            name = called_name(node)
+            if name not in own and not hasattr(builtins, name) and name != "cls":
+                findings.append(source.found("L5", node, f"{function.name} calls what it was passed, in an operator"))
+    return findings
+
+
+def is_self(node):
+    return isinstance(node, ast.Name) and node.id == "self"
+
+
+def is_new_list(node):
+    return isinstance(node, (ast.List, ast.ListComp)) or called_name(node) in ("list", "sorted")
 
 
 def is_length(node):
@@ -556,6 +708,8 @@ def check_unused(source):
             node.id for node in ast.walk(function) if isinstance(node, ast.Name) and isinstance(node.ctx, ast.Store)
         }
         taken = {row.arg for row in ast.walk(function.args) if isinstance(row, ast.arg)} - {"self", "cls"}
+        if function.name == "__exit__":
+            taken -= {"kind", "value", "trace"}
         for name in sorted((stored | taken) - used - {"_"}):
             findings.append(source.found("unused", function, f"the variable {name}"))
         if "_" in used:
@@ -675,6 +829,9 @@ def is_only_read(source, node):
 FILE_CHECKS = (
     check_text, check_words, check_names, check_shadows, check_builtins, check_module_level, check_imports,
     check_functions, check_statements, check_errors, check_calls, check_lazy, check_sets, check_special_methods,
-    check_defaults, check_unused,
+    check_finally, check_defaults, check_unused,
 )
-PACKAGE_CHECKS = (check_import_targets, check_attributes, check_generators, check_private_used, check_tables)
+PACKAGE_CHECKS = (
+    check_import_targets, check_attributes, check_generators, check_private_used, check_tables, check_decorated,
+    check_pure,
+)

@@ -1,6 +1,8 @@
-"""Modules, wrong values and a maker of random modules for the tests."""
+"""Modules, wrong values, a maker of random modules, and what tells an error, for the tests."""
 
 import random
+
+from bindspan.errors import BindspanError
 
 M_TEXT = """name x = red
 flag lit = off
@@ -164,6 +166,15 @@ KEPT = (
     "name flag slot func open own look bind call keep take shift run drop apart when held fail guard else after end "
     "with of on off"
 ).split()
+
+
+def refused(action, *values):
+    """The error that a call raises, with its fields; None if it raises none."""
+    try:
+        action(*values)
+    except BindspanError as error:
+        return (type(error), *vars(error).values())
+    return None
 
 
 def nested(blocks, inner=(("fail",),), kind="apart"):

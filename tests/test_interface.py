@@ -3,17 +3,47 @@
 import inspect
 import unittest
 
-from bindspan import captures, checks, texts
+from bindspan import captures, checks, edits, envs, modules, scopes, texts
 
 SIGNATURES = {
     captures: {"Captures": "(pairs=())", "candidates": "(free, most=8)"},
     checks: {"check": "(parts)", "keepings": "(parts)"},
     texts: {"write": "(parts)", "parse": "(text)"},
+    modules: {"Module": "(parts)"},
+    edits: {
+        "without": "(module, line)", "unwrapped": "(module, line)", "inlined": "(module, line)",
+        "outlined": "(module, line, ident)", "renamed": "(module, old, new)",
+    },
+    envs: {"Env": "(bindings=None)"},
+    scopes: {"Scope": "(defaults, engine='chain')"},
 }
-CAPTURES_METHODS = (
-    "__init__ of read __str__ __or__ __and__ __sub__ __xor__ __ror__ __rand__ __rsub__ __rxor__ within __eq__ "
-    "__contains__ __len__ __bool__ __iter__ at"
-).split()
+
+# For each class its methods with their parameters behind the object itself; double-underscore methods have none here.
+METHODS = {
+    captures.Captures: {
+        "of": "*pairs", "read": "text", "within": "other", "at": "number",
+        "__init__ __str__ __or__ __and__ __sub__ __xor__ __ror__ __rand__ __rsub__ __rxor__ __eq__ __contains__ "
+        "__len__ __bool__ __iter__": None,
+    },
+    modules.Module: {
+        "read": "text", "idents": "kind", "part": "ident", "statement": "line", "with_captures": "captures",
+        "full": "", "bare": "", "__init__ __str__ __len__ __getitem__ __iter__ __eq__": None,
+    },
+    envs.Env: {
+        "names": "", "listed": "", "only": "names", "within": "other",
+        "__init__ __getitem__ __contains__ __len__ __iter__ __or__ __ror__ __sub__ __eq__ __str__": None,
+    },
+    scopes.Scope: {
+        "during": "bindings, action", "binding": "bindings", "apart": "action", "look": "name", "names": "",
+        "current": "", "keep": "action, names=()", "use": "engine",
+        "__init__ __getitem__ __iter__ __contains__": None,
+    },
+    scopes.Kept: {
+        "also": "names", "__call__": "scope=None", "__init__ __getitem__ __contains__ __len__ __iter__": None,
+    },
+}
+CLASS_METHODS = ((captures.Captures, "of"), (captures.Captures, "read"), (modules.Module, "read"))
+PROPERTIES = ((scopes.Scope, "depth", False), (scopes.Scope, "steps", False), (scopes.Scope, "engine", True))
 
 
 class InterfaceTest(unittest.TestCase):
@@ -23,16 +53,33 @@ class InterfaceTest(unittest.TestCase):
                 found = getattr(module, name)
                 self.assertEqual(found.__module__, module.__name__)
                 self.assertEqual(str(inspect.signature(found)), signature, name)
+        self.assertEqual(scopes.Kept.__module__, "bindspan.scopes")
 
     def test_methods_stand_in_the_class_itself(self):
-        for name in CAPTURES_METHODS:
-            self.assertIn(name, vars(captures.Captures))
-        for name in ("of", "read"):
-            self.assertIsInstance(vars(captures.Captures)[name], classmethod)
-        self.assertEqual(str(inspect.signature(captures.Captures.of)), "(*pairs)")
-        self.assertEqual(str(inspect.signature(captures.Captures.read)), "(text)")
-        self.assertEqual(str(inspect.signature(captures.Captures.within)), "(self, other)")
-        self.assertEqual(str(inspect.signature(captures.Captures.at)), "(self, number)")
+        for owner, methods in METHODS.items():
+            self.assertEqual(owner.__bases__, (object,))
+            for names, parameters in methods.items():
+                for name in names.split():
+                    self.assertIn(name, vars(owner))
+                    if parameters is not None:
+                        found = str(inspect.signature(getattr(owner, name)))
+                        own = [] if (owner, name) in CLASS_METHODS else ["self"]
+                        self.assertEqual(found, "(" + ", ".join(own + [parameters] * bool(parameters)) + ")", name)
+
+    def test_class_methods_and_properties(self):
+        for owner, name in CLASS_METHODS:
+            self.assertIsInstance(vars(owner)[name], classmethod)
+        for owner, name, assigned in PROPERTIES:
+            self.assertIsInstance(vars(owner)[name], property)
+            self.assertEqual(vars(owner)[name].fset is not None, assigned)
+
+    def test_fields_are_set_when_an_object_is_created(self):
+        module = modules.Module(())
+        for name in ("parts", "bound", "targets", "keepings", "captures"):
+            self.assertIn(name, vars(module))
+        kept = scopes.Scope({}).keep(None)
+        for name in ("record", "home"):
+            self.assertIn(name, vars(kept))
 
     def test_candidates_is_a_generator(self):
         self.assertTrue(inspect.isgeneratorfunction(captures.candidates))

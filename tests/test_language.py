@@ -35,6 +35,33 @@ class Box:
     def __eq__(self, other):
         return isinstance(other, Box) and self.rows == other.rows
 
+    def __or__(self, other):
+        rows = list(self.rows)
+        rows.append(other)
+        return Box(rows)
+
+    @property
+    def width(self):
+        return len(self.rows)
+
+    @width.setter
+    def width(self, value):
+        self.rows = self.rows[:value]
+
+    def __enter__(self):
+        self.before = self.rows
+        return self
+
+    def __exit__(self, kind, value, trace):
+        self.rows = self.before
+
+    def during(self, action):
+        before = self.rows
+        try:
+            return action(self)
+        finally:
+            self.rows = before
+
 
 def steps(many):
     for at, _ in enumerate(range(many), start=1):
@@ -123,6 +150,26 @@ BROKEN = [
     ("L28", "class Box:\n    def __init__(self):\n        return None\n"),
     ("L28", "class Box:\n    def __len__(self):\n        return self.f()\n\n    def f(self):\n        return 1\n"),
     ("L28", "class Box:\n    def __str__(self):\n        self.a = 1\n        return ''\n"),
+    ("L6", "def f(xs):\n    try:\n        xs[0] = 1\n    finally:\n        f(xs)\n"),
+    ("L6", "def f(xs):\n    try:\n        f(xs)\n    finally:\n        xs[0] = 1\n"),
+    ("L6", "def f(xs):\n    try:\n        f(xs)\n    finally:\n        return xs\n"),
+    ("L6", "def f(x):\n    try:\n        f(x)\n    finally:\n        x.a = -1\n"),
+    ("L6", "def f(x):\n    with x:\n        f(x)\n"),
+    ("L6", "class Box:\n    def __exit__(self, kind, value, trace):\n        self.rows = value\n"),
+    ("L6", "class Box:\n    def __exit__(self, kind, value, trace):\n        self.rows = len(self.a)\n"),
+    ("L6", "class Box:\n    def __exit__(self, kind, value):\n        self.rows = 1\n"),
+    ("L6", "class Box:\n    def __enter__(self, rows):\n        self.rows = rows\n"),
+    ("L5", "class Box:\n    @property\n    def rows(self):\n        self.a = 1\n        return 1\n"),
+    ("L5", "class Box:\n    @property\n    def title(self):\n        return 1\n"),
+    ("L5", "class Box:\n    @property\n    def f(self):\n        return 1\n\n\nclass Bag:\n    def f(self):\n        pass\n"),
+    ("L5", "class Box:\n    @property\n    def f(self):\n        return 1\n\n\ndef g(x):\n    x.f = 1\n"),
+    ("L5", "class Box:\n    @classmethod\n    def f(cls):\n        return 1\n\n\ndef g(x):\n    x.f = 1\n"),
+    ("L5", "class Box:\n    @staticmethod\n    def f():\n        return 1\n\n\nclass Bag:\n    def f(self):\n        pass\n"),
+    ("L5", "class Box:\n    def __or__(self, other):\n        return f(other)\n\n\ndef f(x):\n    x.a = 1\n"),
+    ("L5", "class Box:\n    def __or__(self, other):\n        return f(other)\n\n\ndef f(x):\n    x.append(1)\n"),
+    ("L5", "class Box:\n    def __or__(self, other):\n        return f(other)\n\n\ndef f(x):\n    return x(1)\n"),
+    ("L5", "class Box:\n    def __or__(self, other):\n        n = 0\n        n += other\n        return n\n"),
+    ("L5", "class Box:\n    def __eq__(self, other):\n        return other.f()\n\n    def f(self):\n        self.a = 1\n"),
     ("unused", "from bindspan.other import Thing\n"),
     ("unused", "def f():\n    a = 1\n"),
     ("unused", "def f(a):\n    pass\n"),
