@@ -1,6 +1,6 @@
 """Well formed parts as trees: what they bind and name, and how they are rebuilt."""
 
-from bindspan.forms import IDENTS, STATEMENTS, roles_of
+from bindspan.forms import IDENTS, STATEMENTS, roles_of, rows_of
 
 
 def bound_names(parts):
@@ -52,3 +52,16 @@ def replaced(node, path, rows):
     at = path[0]
     inner = rows if len(path) == 1 else (replaced(node[at], path[1:], rows),)
     return (*node[:at], *inner, *node[at + 1:])
+
+
+def words_in(parts):
+    """The list of the words that are defaults of names, or that binds give to names."""
+    words = [part[2] for part in parts if part[0] == "name"]
+    names = [part[1] for part in parts if part[0] == "name"]
+    waiting = [row for part in parts for rows in rows_of(part) for row in rows]
+    while waiting:
+        row = waiting.pop()
+        if row[0] == "bind" and row[1] in names and row[2][0] == "word":
+            words.append(row[2][1])
+        waiting.extend([inner for rows in rows_of(row) for inner in rows])
+    return words

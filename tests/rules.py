@@ -559,6 +559,9 @@ def is_simple_row(row):
     """Whether a statement only assigns names, attributes and literals to names and attributes."""
     if isinstance(row, ast.Assign):
         return len(row.targets) == 1 and is_dotted(row.targets[0]) and is_simple(row.value)
+    if isinstance(row, ast.AugAssign):
+        whole = isinstance(row.value, ast.Constant) and isinstance(row.value.value, int)
+        return isinstance(row.op, (ast.Add, ast.Sub)) and is_dotted(row.target) and whole
     return isinstance(row, ast.Pass)
 
 
@@ -699,6 +702,14 @@ def check_unused(source):
     """Imports and local variables that are not used."""
     findings = []
     read = {node.id for node in source.nodes(ast.Name) if isinstance(node.ctx, ast.Load)}
+    # The functions of a table are called in one way, so they share their parameters.
+    listed = {
+        part.id
+        for node in source.tree.body
+        if isinstance(node, ast.Assign)
+        for part in ast.walk(node.value)
+        if isinstance(part, ast.Name)
+    }
     for name in source.imported():
         if name not in read:
             findings.append(source.found("unused", 1, f"the import {name}"))
@@ -710,6 +721,8 @@ def check_unused(source):
         taken = {row.arg for row in ast.walk(function.args) if isinstance(row, ast.arg)} - {"self", "cls"}
         if function.name == "__exit__":
             taken -= {"kind", "value", "trace"}
+        if function.name in listed:
+            taken = set()
         for name in sorted((stored | taken) - used - {"_"}):
             findings.append(source.found("unused", function, f"the variable {name}"))
         if "_" in used:

@@ -3,7 +3,7 @@
 import inspect
 import unittest
 
-from bindspan import captures, checks, edits, envs, modules, scopes, texts
+from bindspan import captures, checks, edits, envs, modules, parting, runs, scopes, scripts, sessions, texts
 
 SIGNATURES = {
     captures: {"Captures": "(pairs=())", "candidates": "(free, most=8)"},
@@ -16,6 +16,12 @@ SIGNATURES = {
     },
     envs: {"Env": "(bindings=None)"},
     scopes: {"Scope": "(defaults, engine='chain')"},
+    scripts: {
+        "check_script": "(module, script)", "walk": "(script)", "count_moves": "(script)", "depth_of": "(script)",
+    },
+    sessions: {"Session": "(module)"},
+    runs: {"run": "(module, script)", "general": "(module, script)", "fill": "(events, settings)"},
+    parting: {"parting": "(first, second, *, depth=None)", "alike": "(first, second, *, depth=None)"},
 }
 
 # For each class its methods with their parameters behind the object itself; double-underscore methods have none here.
@@ -41,9 +47,16 @@ METHODS = {
     scopes.Kept: {
         "also": "names", "__call__": "scope=None", "__init__ __getitem__ __contains__ __len__ __iter__": None,
     },
+    sessions.Session: {
+        "call run": "target, bindings=None, *, given=None", "setting": "number", "content": "slot", "__init__": None,
+    },
+    runs.Run: {"words": "tag", "ending": "number", "__len__ __getitem__ __iter__": None},
 }
 CLASS_METHODS = ((captures.Captures, "of"), (captures.Captures, "read"), (modules.Module, "read"))
-PROPERTIES = ((scopes.Scope, "depth", False), (scopes.Scope, "steps", False), (scopes.Scope, "engine", True))
+PROPERTIES = (
+    (scopes.Scope, "depth", False), (scopes.Scope, "steps", False), (scopes.Scope, "engine", True),
+    (sessions.Session, "trace", False), (sessions.Session, "depth", False),
+)
 
 
 class InterfaceTest(unittest.TestCase):
@@ -53,7 +66,8 @@ class InterfaceTest(unittest.TestCase):
                 found = getattr(module, name)
                 self.assertEqual(found.__module__, module.__name__)
                 self.assertEqual(str(inspect.signature(found)), signature, name)
-        self.assertEqual(scopes.Kept.__module__, "bindspan.scopes")
+        for owner, place in ((scopes.Kept, scopes), (runs.Run, runs)):
+            self.assertEqual(owner.__module__, place.__name__)
 
     def test_methods_stand_in_the_class_itself(self):
         for owner, methods in METHODS.items():
@@ -80,9 +94,12 @@ class InterfaceTest(unittest.TestCase):
         kept = scopes.Scope({}).keep(None)
         for name in ("record", "home"):
             self.assertIn(name, vars(kept))
+        for name in ("events", "settings", "contents"):
+            self.assertIn(name, vars(runs.run(module, ())))
 
-    def test_candidates_is_a_generator(self):
+    def test_generators(self):
         self.assertTrue(inspect.isgeneratorfunction(captures.candidates))
+        self.assertTrue(inspect.isgeneratorfunction(scripts.walk))
 
 
 if __name__ == "__main__":

@@ -21,6 +21,7 @@ class Box:
 
     def __init__(self, rows=()):
         self.rows = list(rows)
+        self.many = 0
 
     @classmethod
     def of(cls, *rows):
@@ -57,10 +58,19 @@ class Box:
 
     def during(self, action):
         before = self.rows
+        self.many += 1
         try:
             return action(self)
         finally:
             self.rows = before
+            self.many -= 1
+
+
+def told(box, word):
+    return box
+
+
+ACTIONS = {"told": told}
 
 
 def steps(many):
@@ -154,6 +164,7 @@ BROKEN = [
     ("L6", "def f(xs):\n    try:\n        f(xs)\n    finally:\n        xs[0] = 1\n"),
     ("L6", "def f(xs):\n    try:\n        f(xs)\n    finally:\n        return xs\n"),
     ("L6", "def f(x):\n    try:\n        f(x)\n    finally:\n        x.a = -1\n"),
+    ("L6", "def f(x):\n    try:\n        f(x)\n    finally:\n        x.a -= x\n"),
     ("L6", "def f(x):\n    with x:\n        f(x)\n"),
     ("L6", "class Box:\n    def __exit__(self, kind, value, trace):\n        self.rows = value\n"),
     ("L6", "class Box:\n    def __exit__(self, kind, value, trace):\n        self.rows = len(self.a)\n"),
