@@ -46,7 +46,7 @@ def _searched(modules, level, smallest):
             break
         search = Search(Rivals(modules, level, reds))
         search.go((PARTED,), count_moves(ways[PARTED]) if ways else None)
-        found = ways_of(search)
+        found = ways_of(search, (PARTED,))
         if found and (not ways or count_moves(found[PARTED]) < count_moves(ways[PARTED])):
             ways = found
     return ways

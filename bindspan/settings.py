@@ -51,7 +51,7 @@ class Wording:
     """Puts new words into scripts: words that are all different, and that none of the modules has."""
 
     def __init__(self, modules):
-        self.module = modules[0]
+        self.used = modules[0]
         self.taken = [word for module in modules for word in words_in(module.parts)]
         self.tried = 0
 
@@ -62,8 +62,8 @@ class Wording:
     def _move(self, move):
         """The move with its bindings."""
         kind, target, (flags, binds), reactions = move
-        bindings = {ident: self._new_word() for ident in self.module.idents("name")} if binds else {}
-        for ident, word in zip(self.module.idents("flag"), flags):
+        bindings = {ident: self._new_word() for ident in self.used.idents("name")} if binds else {}
+        for ident, word in zip(self.used.idents("flag"), flags):
             bindings[ident] = word
         return (kind, target, bindings, tuple([(self.script(inner), ending) for inner, ending in reactions]))
 

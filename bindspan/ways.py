@@ -43,9 +43,9 @@ class Draft:
         self.head = None
 
 
-def ways_of(search):
-    """For each goal that the search has found a script that meets it by as few moves as the search knows."""
-    return {goal: _moves(search, WHOLE, step) for goal, (_, step) in search.found.items()}
+def ways_of(search, goals):
+    """For each of the goals that the search has found a script that meets it by as few moves as the search knows."""
+    return {goal: _moves(search, WHOLE, search.found[goal][1]) for goal in goals if goal in search.found}
 
 
 def within_depth(seek, depth):

@@ -558,7 +558,9 @@ def check_finally(source):
 def is_simple_row(row):
     """Whether a statement only assigns names, attributes and literals to names and attributes."""
     if isinstance(row, ast.Assign):
-        return len(row.targets) == 1 and is_dotted(row.targets[0]) and is_simple(row.value)
+        target = row.targets[0]
+        parts = target.elts if isinstance(target, ast.Tuple) else [target]
+        return len(row.targets) == 1 and all(is_dotted(part) for part in parts) and is_simple(row.value)
     if isinstance(row, ast.AugAssign):
         whole = isinstance(row.value, ast.Constant) and isinstance(row.value.value, int)
         return isinstance(row.op, (ast.Add, ast.Sub)) and is_dotted(row.target) and whole
@@ -607,10 +609,21 @@ def check_decorated(sources):
             findings.append(source.found("L5", node, f"the parameters of the setter of {node.name}"))
         if is_fixed(node) and node.name in plain | properties | VALUE_METHODS:
             findings.append(source.found("L5", node, f"{node.name} is a static or class method and something else"))
+    settable = properties - {node.name for _, node in rows if is_property(node) and not has_setter(rows, node)}
     for (_, name), (source, node) in stored.items():
-        if name in properties | fixed:
+        if name in properties | fixed and (name not in settable or is_self(node.value)):
             findings.append(source.found("L5", node, f"{name} is an attribute and something else"))
     return findings
+
+
+def has_setter(rows, node):
+    """Whether a property has a setter in the same class."""
+    return any(
+        is_setter(other) and other.name == node.name and source.parents[other] is home.parents[node]
+        for source, other in rows
+        for home, one in rows
+        if one is node
+    )
 
 
 CHANGING = set("append clear extend insert pop remove reverse setdefault update add discard sort".split())

@@ -78,6 +78,14 @@ def steps(many):
         yield Thing(at)
 
 
+def widen(box, width):
+    before, many = box.width, box.many
+    try:
+        box.width = width
+    finally:
+        box.width, box.many = before, many
+
+
 def seen(words):
     return sorted(set(words) - set(TABLE.get("a"))), [at for at in steps(MOST)]
 '''
@@ -165,6 +173,7 @@ BROKEN = [
     ("L6", "def f(xs):\n    try:\n        f(xs)\n    finally:\n        return xs\n"),
     ("L6", "def f(x):\n    try:\n        f(x)\n    finally:\n        x.a = -1\n"),
     ("L6", "def f(x):\n    try:\n        f(x)\n    finally:\n        x.a -= x\n"),
+    ("L6", "def f(x):\n    try:\n        f(x)\n    finally:\n        x.a, x[0] = x, x\n"),
     ("L6", "def f(x):\n    with x:\n        f(x)\n"),
     ("L6", "class Box:\n    def __exit__(self, kind, value, trace):\n        self.rows = value\n"),
     ("L6", "class Box:\n    def __exit__(self, kind, value, trace):\n        self.rows = len(self.a)\n"),
@@ -174,6 +183,7 @@ BROKEN = [
     ("L5", "class Box:\n    @property\n    def title(self):\n        return 1\n"),
     ("L5", "class Box:\n    @property\n    def f(self):\n        return 1\n\n\nclass Bag:\n    def f(self):\n        pass\n"),
     ("L5", "class Box:\n    @property\n    def f(self):\n        return 1\n\n\ndef g(x):\n    x.f = 1\n"),
+    ("L5", "class Box:\n    @property\n    def f(self):\n        return 1\n\n    @f.setter\n    def f(self, value):\n        self.f = value\n"),
     ("L5", "class Box:\n    @classmethod\n    def f(cls):\n        return 1\n\n\ndef g(x):\n    x.f = 1\n"),
     ("L5", "class Box:\n    @staticmethod\n    def f():\n        return 1\n\n\nclass Bag:\n    def f(self):\n        pass\n"),
     ("L5", "class Box:\n    def __or__(self, other):\n        return f(other)\n\n\ndef f(x):\n    x.a = 1\n"),
