@@ -51,9 +51,10 @@ class Search:
         self.rests = Numbers()
         self.rests.of_value(None)
         self.nodes = Numbers()
-        # For each node the origins that reach it, rows of origins, a number of moves, and how they come there, and
-        # what the ends of the callback lead to.
+        # For each node the origins that reach it, those by each number of moves, rows of origins and how they come
+        # there, and what the ends of the callback lead to.
         self.seen = []
+        self.by_cost = []
         self.history = []
         self.end_rows = []
         # For each scene its nodes, its starts, and the scenes that one move leads to, with the number of moves.
@@ -99,6 +100,7 @@ class Search:
         node = self.nodes.of_value((rest, scene))
         if node == len(self.seen):
             self.seen.append(0)
+            self.by_cost.append({})
             self.history.append([])
             self.end_rows.append(None)
             self.nodes_at[scene].append(node)
@@ -106,15 +108,18 @@ class Search:
 
     def _put(self, cost, node, bits, reason):
         """Has the origins come to the node later."""
-        if bits & ~self.seen[node]:
-            while len(self.buckets) <= cost:
-                self.buckets.append({})
-            bucket = self.buckets[cost]
-            if node in bucket:
-                bucket[node].append((bits, reason))
-            else:
-                bucket[node] = [(bits, reason)]
-            self.lowest = min(self.lowest, cost)
+        if not bits & ~self.seen[node]:
+            return
+        while len(self.buckets) <= cost:
+            self.buckets.append({})
+        bucket = self.buckets[cost]
+        if node not in bucket:
+            bucket[node] = [(bits, reason)]
+            if cost < self.lowest:
+                self.lowest = cost
+        elif bits & ~bucket[node][-1][0]:
+            # Each row has also the origins of those before it.
+            bucket[node].append((bits | bucket[node][-1][0], reason))
 
     def _empty(self, cost):
         """Takes all that there is for this number of moves, and what comes to it meanwhile."""
@@ -132,12 +137,13 @@ class Search:
             fresh = bits & ~self.seen[node]
             if fresh:
                 self.seen[node] |= fresh
-                self.history[node].append((fresh, cost, reason))
+                self.history[node].append((fresh, reason))
                 if reason[0] != "nest":
                     learnt |= fresh
         fresh = self.seen[node] & ~before
         if not fresh:
             return
+        self.by_cost[node][cost] = self.by_cost[node].get(cost, 0) | fresh
         if fresh & WHOLE:
             self.front = cost
         for there, many in list(self.edges[scene]):
@@ -145,8 +151,13 @@ class Search:
         if rest != NO_REST:
             self._arrive_inside(cost, node, fresh)
         else:
-            self._learn(cost, scene, learnt)
-        if rest == NO_REST and fresh & WHOLE and not self.rules.hopeless(self.scenes.rows[scene]):
+            self._arrive_between(cost, node, fresh, learnt)
+
+    def _arrive_between(self, cost, node, fresh, learnt):
+        """Has origins come to a node at which no move is under way, those in learnt by just one move."""
+        _, scene = self.nodes.rows[node]
+        self._learn(cost, scene, learnt)
+        if fresh & WHOLE and not self.rules.hopeless(self.scenes.rows[scene]):
             for number, row in enumerate(self.start_rows_at(scene)):
                 self._follow(cost + 1, row, WHOLE, ("start", node, number))
 
@@ -194,8 +205,9 @@ class Search:
         self.edges[scene].append((there, many))
         for node in list(self.nodes_at[scene]):
             rest, _ = self.nodes.rows[node]
-            for bits, cost, _ in self.history[node]:
-                self._put(cost + many, self._node(rest, there), bits, ("nest", node, there))
+            target = self._node(rest, there)
+            for cost, bits in self.by_cost[node].items():
+                self._put(cost + many, target, bits, ("nest", node, there))
 
     def start_rows_at(self, scene):
         """The moves from the scene on, each with its goals and the node that it leads to."""

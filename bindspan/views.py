@@ -45,7 +45,9 @@ def views(module, *, depth=None):
     """The views of the module for all callers whose scripts have at most this depth."""
     ways = within_depth(lambda level: _all_ways(Tracer(module, level)), depth)
     for source in _fixed_sources(module):
-        ways = {**ways, **within_depth(lambda level: _all_ways(Tracer(module, level, (source,), source)), depth)}
+        found = within_depth(lambda level: _all_ways(Tracer(module, level, (source,), source)), depth)
+        for goal, way in found.items():
+            ways[goal] = way
     return Views(module, ways)
 
 

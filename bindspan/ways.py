@@ -23,9 +23,8 @@ class Draft:
         """Begins a move."""
         self.head = head
         self.reactions = []
-        self.inner = []
 
-    def add(self, moves):
+    def include(self, moves):
         """Has whole moves made, by the callback that is run if a move is under way."""
         if self.head is None:
             self.moves.extend(moves)
@@ -65,7 +64,7 @@ def _moves(search, bit, last):
         if kind == "dive":
             drafts.append(Draft())
         elif kind == "nest":
-            drafts[-1].add(_edge(search, node, number))
+            drafts[-1].include(_edge(search, node, number))
         else:
             _take_row(search, drafts[-1], kind, node, number)
     inner = drafts.pop()
@@ -73,7 +72,7 @@ def _moves(search, bit, last):
         inner.end()
     while drafts:
         outer = drafts.pop()
-        outer.add(inner.moves)
+        outer.include(inner.moves)
         outer.react("return")
         outer.end()
         inner = outer
@@ -94,7 +93,7 @@ def _steps_to(search, bit, last):
 
 def _step_to(search, bit, node):
     """The step by which an origin comes to the node."""
-    return [step for bits, _, step in search.history[node] if bits & bit][0]
+    return [step for bits, step in search.history[node] if bits & bit][0]
 
 
 def _edge(search, node, there):

@@ -6,7 +6,7 @@ from bindspan.captures import Captures
 from bindspan.edits import without
 from bindspan.modules import Module
 
-VERBS = "look run run run take take keep shift bind bind call drop apart when held guard fail".split()
+VERBS = "look run run run take take keep keep shift shift bind bind call drop apart when held guard fail".split()
 BLOCKS = ("bind", "apart", "when", "held", "guard")
 
 

@@ -116,6 +116,15 @@ class GuardsTest(Benching):
                     else:
                         self.assertIsNone(self.broken(bench, ("shown", tag), bench.shown, tag))
 
+    def test_the_smallest_script_of_all_is_told(self):
+        # Two moves tell the words of the callers apart, one move the words of the binds.
+        first = read("name x = a;own slot s;open func f;take s with x;end;open func g;run s;end;open func h;bind x = b;look t x;end;end")
+        second = read("name x = a;own slot s;open func f;take s;end;open func g;run s;end;open func h;bind x = c;look t x;end;end")
+        bench = Bench(first)
+        self.assertEqual(count_moves(self.broken(bench, ("like", second), bench.like, second)), 1)
+        bench.like(first)
+        self.assertEqual(count_moves(self.broken(bench, ("like", first), bench.change, second)), 1)
+
     def test_like_against_parting(self):
         for seed in range(30):
             module = plotted(seed, names=2, flags=1, slots=2, funcs=4)

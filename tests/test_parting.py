@@ -185,6 +185,26 @@ class PartingTest(Asking):
         first, second = read(text), read(text.replace("look t x", "drop t"))
         self.assertEqual([self.count(first, second, depth) for depth in (None, 0, 1, 2, 5)], [3, 4, 3, 3, 3])
 
+    def test_every_move_counts_one_at_every_level(self):
+        steps = "held c;keep t none;else;held b;keep c none;else;held a;keep b none;else;keep a none;end;end;end;end"
+        text = (
+            "name x = a;own func none;end;own slot s;own slot a;own slot b;own slot c;own slot t;open func slow;STEPS;"
+            "open func go;take s;FILL;guard;run s;end;DROP;end;open func see;held t;look t x;end;end"
+        ).replace("STEPS", steps)
+        # Moves inside of a callback can do the same, but one more move is needed for this.
+        first = read(text.replace("FILL;", "").replace("DROP;", ""))
+        self.assertEqual([self.count(first, read(str(first).replace("look t x", "drop t")), depth) for depth in (None, 0, 1)], [5, 5, 5])
+        # Inside of the callback, two moves do what four do outside of it.
+        first = read(text.replace("FILL", "keep b none").replace("DROP", "drop b"))
+        self.assertEqual([self.count(first, read(str(first).replace("look t x", "drop t")), depth) for depth in (None, 0, 1)], [4, 5, 4])
+        # The same where only the rows behind the callback show it.
+        text = (
+            "name x = a;own func none;end;own slot s;own slot b;own slot c;own slot t;open func slow;held c;keep t none;else;held b;keep c none;"
+            "else;keep b none;end;end;end;open func go;take s;keep b none;guard;run s;end;drop b;held t;look t x;end;end"
+        )
+        first, second = read(text), read(text.replace("look t x", "drop t"))
+        self.assertEqual([self.count(first, second, depth) for depth in (None, 0, 1)], [3, 4, 3])
+
     def test_raising_callbacks(self):
         text = "name x = a;own slot s;open func ask;take s;end;open func go;guard;run s;after;look t x;end;end"
         first, second = read(text), read(text.replace("look t x", "drop s"))

@@ -1,6 +1,7 @@
 """Plays: point 41, and the interface of play."""
 
 import unittest
+from unittest import mock
 
 from bindspan.envs import Env
 from bindspan.errors import BadScript, NoEngine, UnknownName
@@ -8,6 +9,7 @@ from bindspan.modules import Module
 from bindspan.plays import play
 from bindspan.runs import run
 from bindspan.scopes import Scope
+from tests import test_runs
 from tests.plots import plotted
 from tests.runner import Caller
 from tests.samples import FULL_TEXT, M_TEXT, WRONG, Maker, refused
@@ -116,6 +118,21 @@ class PlayTest(unittest.TestCase):
         play(module, [("call", "f", {}, ())] * 2, Looked({"x": 0}), engines=["chain", "cells"])
         self.assertEqual(seen, ["chain", "cells", "chain", "cells", "cells", "chain", "cells", "chain"])
 
+    def test_the_engine_is_set_for_events_of_every_kind(self):
+        text = "name x = a\nown slot s\nopen func f\ntake s\nlook t x\nrun s\nrun s\nend"
+        module, set_to = Module.read(text), []
+
+        class Noted(Scope):
+            def use(self, engine):
+                set_to.append(engine)
+                super().use(engine)
+
+        scope = Noted({"x": 0}, "cells")
+        set_to.clear()
+        events = play(module, [("call", "f", {}, [([("call", "f", {}, ())], "return")])], scope, engines=("chain", "cells", "cells"))
+        self.assertEqual([event[0] for event in events], ["look", "ran", "look", "ran", "ran", "end", "ran", "end"])
+        self.assertEqual(set_to, ["chain", "cells", "cells", "chain", "cells", "cells", "chain", "cells", "cells"])
+
     def test_the_means_of_the_scope_are_used(self):
         text = "name x = a\nown slot s\nopen func f\nbind x = b\ntake s with x\nrun s\nend\napart\nlook t x\nend\nend"
         module = Module.read(text)
@@ -150,6 +167,33 @@ class PlayTest(unittest.TestCase):
         events = run(module, script).events
         self.assertEqual(sum(event[0] == "ran" for event in events), 7)
         self.assertEqual(play(module, script, Scope({"x": 0})), events)
+
+
+def played(lines, *script):
+    """What tests.test_runs calls events, by a play instead of a run."""
+    module = Module.read(lines.replace(";", "\n"))
+    return list(play(module, script, Scope(other_values(module), "cells"), engines=("chain", "cells")))
+
+
+class Played:
+    """The tests of what statements and callers do, carried out by plays."""
+
+    def setUp(self):
+        patch = mock.patch.object(test_runs, "events", played)
+        patch.start()
+        self.addCleanup(patch.stop)
+
+
+class StatementsTest(Played, test_runs.StatementsTest):
+    pass
+
+
+class FailuresTest(Played, test_runs.FailuresTest):
+    pass
+
+
+class CallersTest(Played, test_runs.CallersTest):
+    pass
 
 
 class ErrorsTest(unittest.TestCase):
