@@ -7,7 +7,7 @@ from bindspan.scripts import depth_of
 from bindspan.searches import NO_REST, WHOLE
 
 # With a greater bound on the depth, a search without a bound comes first: it has fewer situations to look at.
-GREAT_DEPTH = 2
+GREAT_DEPTH = 1
 
 
 class Draft:

@@ -143,6 +143,14 @@ class PartingTest(Asking):
             for second in modules:
                 self.assertEqual(self.count(first, second), None if first == second else 1)
 
+    def test_the_smallest_script_of_all_is_told(self):
+        # Two moves tell the words of the callers apart, one move the words of the binds.
+        text = "name x = a;own slot s;open func f;take s with x;end;open func g;run s;end;open func h;bind x = WORD;look t x;end;end"
+        first = read(text.replace("WORD", "b"))
+        for word in "acdefg":
+            second = read(text.replace("WORD", word).replace(" with x", ""))
+            self.assertEqual([self.count(first, second, depth) for depth in (None, 0, 5)], [1, 1, 1])
+
     def test_new_words_are_those_of_neither_module(self):
         first = read("name w1 = w3;open func f;look t w1;bind w1 = w2;end;end")
         second = read("name w1 = w3;open func f;bind w1 = w4;look t w1;end;end")

@@ -103,6 +103,12 @@ class FormTest(unittest.TestCase):
 
 
 class WalkTest(unittest.TestCase):
+    def test_the_examples_of_the_document(self):
+        inner = (("call", "put", {}, ()),)
+        script = [("run", "box", {}, [(inner, "raise"), ((), "return")])]
+        self.assertEqual((count_moves(script), depth_of(script)), (2, 1))
+        self.assertEqual(refused(check_script, M, [("call", "put", {}, ()), ("call", "show", {}, ())]), (BadScript, 1))
+
     def test_levels_and_order(self):
         inner = ("run", "box", {"x": "a"}, [([PUT], "return")])
         outer = ("call", "put", {"x": "b"}, (((RUN, inner), "return"), ([], "raise"), ([PUT], "raise")))
