@@ -1,5 +1,6 @@
 """Plays: point 41, and the interface of play."""
 
+import sys
 import unittest
 from unittest import mock
 
@@ -24,23 +25,43 @@ SIZES = (
 
 
 class Watched(Scope):
-    """A scope that notes what it is used for, and which engine is set when something is looked up."""
+    """A scope that notes what it is used for, and how deep in calls something is looked up."""
 
     def __init__(self, *values):
-        self.calls, self.engines = [], []
+        self.calls, self.frames = [], []
         super().__init__(*values)
 
     def during(self, bindings, action):
-        self.calls.append("during")
+        self.calls.append(("during", dict(Env(bindings).listed())))
         return super().during(bindings, action)
 
     def apart(self, action):
-        self.calls.append("apart")
+        self.calls.append(("apart",))
         return super().apart(action)
 
     def keep(self, action, names=()):
-        self.calls.append("keep")
+        self.calls.append(("keep", tuple(names)))
         return super().keep(action, names)
+
+    def look(self, name):
+        many, frame = 0, sys._getframe()
+        while frame is not None:
+            many, frame = many + 1, frame.f_back
+        self.frames.append(many)
+        return super().look(name)
+
+
+def nested(depth, ending="return"):
+    """A script that calls go, and in each callback, down to this depth, go once more."""
+    script = []
+    for _ in range(depth + 1):
+        script = [("call", "go", {}, [(script, ending)])]
+    return script
+
+
+def in_blocks(head, row, block="apart"):
+    """The lines of a function with one row inside 8 blocks."""
+    return f"{head}\n" + f"{block}\n" * 8 + f"{row}\n" + "end\n" * 9
 
 
 def random_plays():
@@ -139,9 +160,11 @@ class PlayTest(unittest.TestCase):
         scope = Watched({"x": 0})
         events = play(module, [("call", "f", {"x": "c"}, ())], scope)
         self.assertEqual(events, (("ran", 0, ("b",)), ("look", "t", "a"), ("end", 0, "return")))
-        self.assertGreaterEqual(scope.calls.count("during"), 3)
-        self.assertGreaterEqual(scope.calls.count("apart"), 1)
-        self.assertEqual(scope.calls.count("keep"), 1)
+        # The move, the bind, the default environment, and the callback that captured x.
+        for word in ("c", "b", "a"):
+            self.assertIn(("during", {"x": word}), scope.calls)
+        self.assertIn(("apart",), scope.calls)
+        self.assertIn(("keep", ("x",)), scope.calls)
         self.assertGreater(scope.steps, 0)
 
     def test_a_play_inside_of_a_play(self):
@@ -154,6 +177,35 @@ class PlayTest(unittest.TestCase):
         scope = Scope({"x": 1, "lit": 2})
         self.assertEqual(play(M, SCRIPT, scope), play(M, SCRIPT, scope))
         self.assertEqual(play(M, SCRIPT[1:], scope), (("end", 0, "return"),))
+
+    def test_scripts_of_any_depth_in_modules_with_many_blocks(self):
+        for block in ("apart", "guard", "bind x = b", "held s", "when z"):
+            text = "name x = a\nflag z = on\nown slot s\nown func ask\ntake s with x\nend\n"
+            text += in_blocks("own func first", "call ask\nrun s") + in_blocks("own func second", "call first", "guard")
+            text += in_blocks("open func go\ncall ask", "call second", block).removesuffix("\n")
+            module = Module.read(text)
+            for depth in (0, 1, 6, 8, 20, 40):
+                for ending in ("return", "raise"):
+                    script = nested(depth, ending)
+                    events = run(module, script).events
+                    self.assertEqual(len(events), 2 * depth + 2)
+                    for engine in ("chain", "cells"):
+                        scope = Scope({"x": 1, "z": 2}, engine)
+                        self.assertEqual(play(module, script, scope), events, (block, depth))
+                        self.assertEqual((scope.engine, scope.depth), (engine, 0))
+                        found = scope.during({"x": 3}, lambda one: (play(module, script, one, engines=["cells", "chain"]), one.depth))
+                        self.assertEqual((found, scope.engine), ((events, 1), engine))
+
+    def test_calls_do_not_grow_deeper_with_the_module_or_the_script(self):
+        text = "name x = a\nown slot s\nown func ask\ntake s\nlook t x\nend\n"
+        flat = Module.read(text + "open func go\ncall ask\nrun s\nend")
+        text += in_blocks("own func first", "call ask\nrun s", "bind x = b") + in_blocks("own func second", "call first")
+        deep = Module.read(text + in_blocks("open func go", "call second", "guard").removesuffix("\n"))
+        scopes = [Watched({"x": 0}) for _ in range(3)]
+        for module, script, scope in zip((flat, deep, deep), (nested(0), nested(0), nested(9)), scopes):
+            self.assertEqual(play(module, script, scope), run(module, script).events)
+        self.assertEqual([len(scope.frames) for scope in scopes], [1, 1, 10])
+        self.assertEqual(len(set(scopes[0].frames + scopes[1].frames + scopes[2].frames)), 1)
 
     def test_deep_modules_and_scripts(self):
         # Two functions with eight blocks each, the whole of which is run inside each of seven moves.
