@@ -35,7 +35,7 @@ def parted(first, second, depth, smallest):
     if first == second:
         return None
     ways = within_depth(lambda level: _searched((first, second), level, smallest), depth)
-    return Wording((first, second)).script(ways[PARTED]) if ways else None
+    return Wording((first, second)).worded(ways[PARTED]) if ways else None
 
 
 def _searched(modules, level, smallest):

@@ -55,7 +55,7 @@ class Session:
         setting = tuple([words.get(ident, word) for ident, word in zip(self.used.bound, self.around)])
         number = len(self.given)
         self.given.append(given)
-        failed, by = self.stage.move(kind, target, setting, self._react)
+        failed, by = self.stage.move(kind, target, setting, lambda which, env: self._react(which, env))
         if failed:
             raise MoveFailed(number, by)
         return number

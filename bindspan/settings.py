@@ -55,7 +55,7 @@ class Wording:
         self.taken = [word for module in modules for word in words_in(module.parts)]
         self.tried = 0
 
-    def script(self, moves):
+    def worded(self, moves):
         """The script of moves that have such pairs in place of bindings."""
         return tuple([self._move(move) for move in moves])
 
@@ -65,7 +65,7 @@ class Wording:
         bindings = {ident: self._new_word() for ident in self.used.idents("name")} if binds else {}
         for ident, word in zip(self.used.idents("flag"), flags):
             bindings[ident] = word
-        return (kind, target, bindings, tuple([(self.script(inner), ending) for inner, ending in reactions]))
+        return (kind, target, bindings, tuple([(self.worded(inner), ending) for inner, ending in reactions]))
 
     def _new_word(self):
         """A word that nothing has yet."""

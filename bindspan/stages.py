@@ -24,11 +24,12 @@ class Stage:
         number = len(self.settings)
         self.settings.append(setting)
         course = Course(self.program, self.slots, _swapped(number), self.events)
-        self.begun += 1
+        before = self.begun
+        self.begun = before + 1
         try:
             self._perform(course, kind, target, setting, react)
         finally:
-            self.begun -= 1
+            self.begun = before
         self.events.append(("end", number, "raise" if course.failed else "return"))
         return (course.failed, None if course.by is None else _swapped(course.by))
 

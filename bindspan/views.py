@@ -32,13 +32,13 @@ class Views:
         """A smallest script in which a look with this tag shows a word from this source."""
         if (tag, source) not in self.looks:
             raise NotSeen((tag, source))
-        return Wording((self.used,)).script(self.ways[("look", tag, source)])
+        return Wording((self.used,)).worded(self.ways[("look", tag, source)])
 
     def callback_script(self, name, source):
         """A smallest script in which a caller's callback sees a word from this source for this name."""
         if (name, source) not in self.callbacks:
             raise NotSeen((name, source))
-        return Wording((self.used,)).script(self.ways[("ran", name, source)])
+        return Wording((self.used,)).worded(self.ways[("ran", name, source)])
 
 
 def views(module, *, depth=None):
@@ -56,7 +56,7 @@ def look_script_of_kind(module, tag, kind, depth):
     if tag not in [node[1] for _, node, _ in beginnings(module.parts) if node[0] == "look"]:
         return None
     ways = within_depth(lambda level: _cheapest_way(module, tag, kind, level), depth)
-    return Wording((module,)).script(ways[kind]) if ways else None
+    return Wording((module,)).worded(ways[kind]) if ways else None
 
 
 def _all_ways(tracer):

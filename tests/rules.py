@@ -445,6 +445,25 @@ def is_listed(node):
     )
 
 
+def check_passed(sources):
+    """L25: a method is called where it stands, never passed on, except an own method as a key."""
+    findings = []
+    rows = [(source, node) for source in sources for node in methods_in(source)]
+    methods = {node.name for _, node in rows if not is_property(node) and not is_setter(node)}
+    stored = {
+        node.attr for source in sources for node in source.nodes(ast.Attribute) if isinstance(node.ctx, ast.Store)
+    }
+    for source in sources:
+        for node in source.nodes(ast.Attribute):
+            above = source.parents[node]
+            called = isinstance(above, ast.Call) and above.func is node
+            as_key = isinstance(above, ast.keyword) and above.arg == "key" and node.attr not in VALUE_METHODS
+            method = node.attr in methods | VALUE_METHODS and node.attr not in stored
+            if method and isinstance(node.ctx, ast.Load) and not called and not as_key:
+                findings.append(source.found("L25", node, f"the method {node.attr} is passed on"))
+    return findings
+
+
 def called_name(node):
     return node.func.id if isinstance(node, ast.Call) and isinstance(node.func, ast.Name) else ""
 
@@ -561,9 +580,7 @@ def is_simple_row(row):
         target = row.targets[0]
         parts = target.elts if isinstance(target, ast.Tuple) else [target]
         return len(row.targets) == 1 and all(is_dotted(part) for part in parts) and is_simple(row.value)
-    if isinstance(row, ast.AugAssign):
-        whole = isinstance(row.value, ast.Constant) and isinstance(row.value.value, int)
-        return isinstance(row.op, (ast.Add, ast.Sub)) and is_dotted(row.target) and whole
+    # The package has arithmetic methods, so there is no + and no - in such places, not even with a literal.
     return isinstance(row, ast.Pass)
 
 
@@ -859,5 +876,5 @@ FILE_CHECKS = (
 )
 PACKAGE_CHECKS = (
     check_import_targets, check_attributes, check_generators, check_private_used, check_tables, check_decorated,
-    check_pure,
+    check_pure, check_passed,
 )

@@ -57,13 +57,16 @@ class Box:
         self.rows = self.before
 
     def during(self, action):
-        before = self.rows
+        before, many = self.rows, self.many
         self.many += 1
         try:
-            return action(self)
+            return action(self, lambda: self.width, sorted(before, key=self.told))
         finally:
             self.rows = before
-            self.many -= 1
+            self.many = many
+
+    def told(self, row):
+        return row
 
 
 def told(box, word):
@@ -174,6 +177,17 @@ BROKEN = [
     ("L6", "def f(x):\n    try:\n        f(x)\n    finally:\n        x.a = -1\n"),
     ("L6", "def f(x):\n    try:\n        f(x)\n    finally:\n        x.a -= x\n"),
     ("L6", "def f(x):\n    try:\n        f(x)\n    finally:\n        x.a, x[0] = x, x\n"),
+    ("L6", "def f(x):\n    try:\n        f(x)\n    finally:\n        x.a -= 1\n"),
+    ("L6", "def f(x):\n    try:\n        f(x)\n    finally:\n        x.a += 1\n"),
+    ("L6", "def f(x):\n    try:\n        f(x)\n    finally:\n        x.a = x.b - 1\n"),
+    ("L6", "def f(x):\n    try:\n        f(x)\n    finally:\n        if x.a:\n            x.a = 1\n"),
+    ("L6", "class Box:\n    def __exit__(self, kind, value, trace):\n        self.many -= 1\n"),
+    ("L25", "class Box:\n    def f(self):\n        return g(self.f)\n\n\ndef g(x):\n    return x\n"),
+    ("L25", "class Box:\n    def f(self):\n        return [self.f]\n"),
+    ("L25", "class Box:\n    def f(self):\n        g = self.f\n        return g\n"),
+    ("L25", "class Box:\n    @classmethod\n    def f(cls, x):\n        return sorted(x, key=cls)\n\n\ndef g(x):\n    return [Box.f, x]\n"),
+    ("L25", "def f(x):\n    return f(x.append)\n"),
+    ("L25", "def f(x):\n    return sorted(x, key=x.index)\n"),
     ("L6", "def f(x):\n    with x:\n        f(x)\n"),
     ("L6", "class Box:\n    def __exit__(self, kind, value, trace):\n        self.rows = value\n"),
     ("L6", "class Box:\n    def __exit__(self, kind, value, trace):\n        self.rows = len(self.a)\n"),
